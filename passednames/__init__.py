@@ -1,0 +1,1 @@
+"""Programs that pass names: pieces, standings, moves, graphs and runs."""

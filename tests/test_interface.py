@@ -1,0 +1,36 @@
+"""The interface: names, the files in which they are defined, parameters and their order."""
+
+import importlib
+import inspect
+import unittest
+
+from passednames.names import AS_IS
+
+GIVEN = ("given", AS_IS)
+LISTED = {
+    "names": {"need_name": ["value"], "need_given": ["value"]},
+    "programs": {
+        "need_program": ["value"], "need_finite": ["program"], "is_finite": ["program"], "free_names": ["program"],
+        "measures": ["program"], "parts_of": ["program"], "part_at": ["program", "path"],
+        "put_at": ["program", "path", "part"], "renamed": ["program", "given"], "same_but_bound": ["one", "other"],
+    },
+    "contexts": {
+        "need_surrounding": ["value"], "hole_at": ["surrounding"], "names_over": ["surrounding"],
+        "surrounded": ["surrounding", "program"], "beside_of": ["one", "other"],
+    },
+}
+
+
+class Interface(unittest.TestCase):
+
+    def test_functions_and_their_parameters(self):
+        for file, functions in LISTED.items():
+            module = importlib.import_module("passednames." + file)
+            for name, wanted in functions.items():
+                function = getattr(module, name)
+                self.assertEqual(function.__module__, module.__name__, name)
+                told = inspect.signature(function).parameters.values()
+                for parameter in told:
+                    self.assertEqual(parameter.kind, parameter.POSITIONAL_OR_KEYWORD, name)
+                got = [(each.name, each.default) if each.default is not each.empty else each.name for each in told]
+                self.assertEqual(got, wanted, name)
