@@ -18,6 +18,17 @@ LISTED = {
         "need_surrounding": ["value"], "hole_at": ["surrounding"], "names_over": ["surrounding"],
         "surrounded": ["surrounding", "program"], "beside_of": ["one", "other"],
     },
+    "standings": {
+        "start": ["program", GIVEN], "need_standing": ["program", "value"], "threads_of": ["program", "path", "numbers"],
+        "settled": ["program", "threads", "known"],
+    },
+    "moving": {"moves": ["program", "standing"], "actions": ["program", "standing"], "is_stuck": ["program", "standing"]},
+    "conditions": {
+        "need_joining": ["many", "value"], "all_joinings": ["many"], "joined": ["program", "standing", "joining"],
+        "holds_joined": ["condition", "joining"], "cases": ["program", "standing"],
+    },
+    "graphs": {"graph": ["program", GIVEN], "how_many": ["program", GIVEN]},
+    "runs": {"walked": ["program", "given", "steps"], "traced": ["program", "given", "trace"]},
 }
 
 
