@@ -180,3 +180,101 @@ def count_piece(piece):
     if piece[0] in ("call", "hole"):
         return 1
     return 1 + count_piece(piece[-1])
+
+
+def near_programs(seed, many, deep=4):
+    """So many pairs (program, one that differs from it in one piece), the same each time."""
+    chance = random.Random(seed)
+    pairs = []
+    while len(pairs) < many:
+        program = random_programs(chance.randrange(10 ** 6), 1, deep)[0]
+        definitions, piece = program
+        other = (definitions, changed(chance, piece, len(definitions), chance.randrange(8)))
+        if count_parts(other) <= 80:
+            pairs.append((program, other))
+    return pairs
+
+
+def changed(chance, piece, definitions, steps):
+    """The piece, somewhere within it another one, so many steps down at most."""
+    word = piece[0]
+    if word in ("one", "beside") and piece[1]:
+        place = chance.randrange(len(piece[1]))
+        if steps == 0 and word == "one" and chance.randrange(2):
+            return (word, piece[1] + (changed(chance, piece[1][place], definitions, 2),))
+        inner = changed(chance, piece[1][place], definitions, steps - 1)
+        if word == "one" and inner[0] not in LATER_BRANCHES:
+            return piece
+        return (word, piece[1][:place] + (inner,) + piece[1][place + 1:])
+    if word in ("send", "take", "alike", "unlike") and steps <= 0 and chance.randrange(2):
+        return (word, piece[1], chance.randrange(4), piece[3])
+    if word == "wait" and steps <= 0 and chance.randrange(2):
+        return wait(piece) if chance.randrange(2) else piece[1]
+    if word in ("alike", "unlike"):
+        inner = changed(chance, piece[3], definitions, steps - 1)
+        return piece[:3] + (inner if inner[0] in LATER_BRANCHES else piece[3],)
+    if word in ("send", "take", "wait", "new"):
+        return piece[:-1] + (changed(chance, piece[-1], definitions, steps - 1),)
+    return random_piece(chance, 3, definitions)
+
+
+LATER_BRANCHES = ("send", "take", "wait", "alike", "unlike")
+
+
+def take_families(seed, many):
+    """So many pairs of choices of takes with tests of the taken name: early, but not late alike ones among them."""
+    chance = random.Random(seed)
+    pairs = []
+    for _ in range(many):
+        goods = [wait(STOP), wait(wait(STOP)), send(0, 1), wait(send(0, 2))]
+        bodies = [random_tests(chance, goods) for _ in range(3)]
+        more = [random_tests(chance, goods) for _ in range(chance.randrange(2))]
+        mixed = one(*[alike(1, 2, each) if chance.randrange(2) else unlike(1, 2, each) for each in chance.sample(goods, 2)])
+        first = one(*[take(0, 1, body) for body in bodies + more])
+        second = one(*[take(0, 1, body) for body in bodies + more + [mixed]][chance.randrange(2):])
+        pairs.append((main(first), main(second)))
+    return pairs
+
+
+def random_tests(chance, goods):
+    """One of goods, or the one of it under a test and of another one under another test."""
+    first, second = chance.choice(goods), chance.choice(goods)
+    name = chance.choice((0, 2, 3))
+    return chance.choice([first, first, one(alike(1, name, first), unlike(1, name, second)), alike(1, name, first), STOP])
+
+
+def circling_programs(seed, many):
+    """So many programs with definitions that pass their names on in another order, again and again."""
+    chance = random.Random(seed)
+    programs = []
+    for _ in range(many):
+        definitions = []
+        for _ in range(2):
+            branches = [circling_branch(chance) for _ in range(chance.randrange(1, 4))]
+            definitions.append(((0, 1), one(*branches)))
+        threads = [call(chance.randrange(2), *chance.sample((0, 1, 2), 2)) for _ in range(chance.randrange(1, 3))]
+        programs.append((tuple(definitions), beside(*threads)))
+    return programs
+
+
+def circling_branch(chance):
+    """A branch over the names 0 and 1 that goes on by a call."""
+    def again(*names):
+        return call(chance.randrange(2), *chance.choice(names))
+
+    return chance.choice([
+        wait(again((1, 0), (0, 1), (0, 0), (1, 1))),
+        send(0, 1, again((1, 0), (0, 1))),
+        take(0, 1, again((1, 0), (0, 1))),
+        take(0, 2, again((1, 2), (2, 1), (0, 2))),
+        wait(new(1, again((0, 1), (1, 0)))),
+        take(1, 2, wait(again((0, 1), (1, 0), (0, 2)))),
+        alike(0, 1, wait(again((0, 1)))),
+        send(1, 0, wait(STOP)),
+        new_sent(again),
+    ])
+
+
+def new_sent(again):
+    """A branch that opens a new name and goes on with it."""
+    return send(0, 0, new(1, send(0, 1, again((0, 1), (1, 0)))))

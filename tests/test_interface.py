@@ -29,6 +29,26 @@ LISTED = {
     },
     "graphs": {"graph": ["program", GIVEN], "how_many": ["program", GIVEN]},
     "runs": {"walked": ["program", "given", "steps"], "traced": ["program", "given", "trace"]},
+    "ever": {
+        "can_ever": ["program", "given", "wanted"], "never_paper": ["program", "given", "wanted"],
+        "is_never_paper": ["program", "given", "wanted", "paper"], "still_steps": ["program", "given", "words"],
+        "silent_circle": ["program", "given"], "ranks": ["program", "given"], "are_ranks": ["program", "given", "value"],
+    },
+    "triples": {"triples_met": ["one", "other", GIVEN]},
+    "likeness": {
+        "alike": ["one", "other", "likeness", GIVEN], "rounds_apart": ["one", "other", "likeness", GIVEN],
+        "alike_paper": ["one", "other", "likeness", GIVEN], "is_alike_paper": ["one", "other", "likeness", "paper", GIVEN],
+        "exchanges": ["program", "likeness", GIVEN], "needed_names": ["program", "likeness", GIVEN],
+    },
+    "silent": {
+        "weak_moves": ["program", GIVEN], "weak_triples": ["one", "other", GIVEN], "alike_weak": ["one", "other", GIVEN],
+        "rounds_weak": ["one", "other", GIVEN], "alike_rooted": ["one", "other", GIVEN], "weak_paper": ["one", "other", GIVEN],
+        "rooted_paper": ["one", "other", GIVEN],
+    },
+    "quiet": {
+        "is_weak_paper": ["one", "other", "paper", GIVEN], "is_rooted_paper": ["one", "other", "paper", GIVEN],
+        "idle_waits": ["program", GIVEN], "are_marks": ["program", "value", GIVEN], "greatest_marks": ["program", GIVEN],
+    },
 }
 
 
