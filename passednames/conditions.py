@@ -44,9 +44,13 @@ def firsts_of(joining):
 
 def joined(program, standing, joining):
     """The pair (STANDING, KEYS) of the standing with known names joined."""
-    table = Table(program)
-    known, _, threads = checked_standing(table, standing)
-    need_joining(known, joining)
+    known, _, _ = checked_standing(Table(program), standing)
+    return join(standing, need_joining(known, joining))
+
+
+def join(standing, joining):
+    """The pair (STANDING, KEYS) of a standing with known names joined; both have been checked."""
+    known, _, threads = standing
     rows = []
     for path, numbers in threads:
         rows.append((path, tuple([joining[n] if n < known else n for n in numbers])))

@@ -7,6 +7,7 @@ import unittest
 from passednames.names import AS_IS
 
 GIVEN = ("given", AS_IS)
+APART = ("apart", ())
 LISTED = {
     "names": {"need_name": ["value"], "need_given": ["value"]},
     "programs": {
@@ -40,6 +41,19 @@ LISTED = {
         "alike_paper": ["one", "other", "likeness", GIVEN], "is_alike_paper": ["one", "other", "likeness", "paper", GIVEN],
         "exchanges": ["program", "likeness", GIVEN], "needed_names": ["program", "likeness", GIVEN],
     },
+    "joinings": {
+        "both_names": ["one", "other"], "given_joined": ["names", "joining"], "alike_joined": ["one", "other", "likeness"],
+        "apart_joined": ["one", "other", "likeness"], "alike_at": ["one", "other", "likeness"],
+        "joined_paper": ["one", "other", "likeness"], "is_joined_paper": ["one", "other", "likeness", "paper"],
+        "joining_surrounding": ["names", "joining"],
+    },
+    "openly": {
+        "open_alike": ["one", "other", APART], "open_round": ["one", "other", APART], "open_met": ["one", "other", APART],
+    },
+    "openpapers": {
+        "open_paper": ["one", "other", APART], "is_open_paper": ["one", "other", "paper", APART],
+        "open_attack": ["one", "other", APART], "is_open_attack": ["one", "other", "attack", APART],
+    },
     "silent": {
         "weak_moves": ["program", GIVEN], "weak_triples": ["one", "other", GIVEN], "alike_weak": ["one", "other", GIVEN],
         "rounds_weak": ["one", "other", GIVEN], "alike_rooted": ["one", "other", GIVEN], "weak_paper": ["one", "other", GIVEN],
@@ -49,6 +63,8 @@ LISTED = {
         "is_weak_paper": ["one", "other", "paper", GIVEN], "is_rooted_paper": ["one", "other", "paper", GIVEN],
         "idle_waits": ["program", GIVEN], "are_marks": ["program", "value", GIVEN], "greatest_marks": ["program", GIVEN],
     },
+    "formed": {"form_of": ["program", "given", "known", "likeness"], "joined_forms": ["program", "known", "likeness"]},
+    "written": {"need_form": ["value", "known", "likeness"], "program_of": ["value", "known", "likeness"]},
 }
 
 

@@ -25,7 +25,7 @@ IN_NO_FILE = set(
     "TypedDict TYPE_CHECKING abstractmethod".split())
 STATEMENTS = (
     ast.Assign, ast.AugAssign, ast.If, ast.While, ast.For, ast.Return, ast.Break, ast.Continue, ast.Pass, ast.Raise,
-    ast.Assert, ast.Delete, ast.Nonlocal, ast.Expr, ast.FunctionDef, ast.ClassDef, ast.ImportFrom)
+    ast.Assert, ast.Delete, ast.Nonlocal, ast.Expr, ast.FunctionDef, ast.ClassDef, ast.ImportFrom, ast.Try)
 
 
 def named(tree, kind):
@@ -162,6 +162,16 @@ class Language(unittest.TestCase):
                     self.assertNotIn("%", node.value)
             self.assertEqual(words & IN_NO_FILE, set(), stem)
             self.assertIsNone(re.search(r"dataclass|overload|contextmanager|_wall|metaclass", (FOLDER / f"{stem}.py").read_text()))
+
+    def test_only_own_errors_are_caught(self):
+        own = {node.name for node in named(TREES["errors"], ast.ClassDef)}
+        for stem, tree in TREES.items():
+            for node in named(tree, ast.Try):
+                self.assertEqual((node.finalbody, node.orelse), ([], []))
+            for node in named(tree, ast.ExceptHandler):
+                self.assertIsNone(node.name)
+                caught = node.type.elts if isinstance(node.type, ast.Tuple) else [node.type]
+                self.assertLessEqual({each.id for each in caught}, own, stem)
 
     def test_error_classes(self):
         for node in named(TREES["errors"], ast.ClassDef):
