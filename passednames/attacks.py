@@ -47,7 +47,8 @@ def is_attack(game, value):
         behind = behind_move(replies, side, move)
         if not is_row_of(answers, len(behind)):
             return False
-        ahead.extend(reversed(list(zip(behind, answers))))
+        # The last of the row is looked at next, and answers are looked at from the left.
+        ahead.extend(list(zip(behind, answers))[::-1])
     return True
 
 

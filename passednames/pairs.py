@@ -95,18 +95,20 @@ def ways_on(word, known, other_known, matching):
     return [(first, second, matching + ((first, second),)) for first, second in taken]
 
 
-def triple_behind(rest, other, names):
-    """The triple behind two rests, names having the pairs of names that are one."""
-    index, keys = rest
-    other_index, other_keys = other
+def all_behind(rests, others, names):
+    """The list of the triples behind each rest of one side and each of the other side.
+
+    names has the pairs of names that are one.
+    """
     partners = {first: second for first, second in names}
-    places = {key: place for place, key in enumerate(other_keys)}
-    matching = []
-    for place, key in enumerate(keys):
-        partner = partners.get(key)
-        if partner in places:
-            matching.append((place, places[partner]))
-    return (index, other_index, tuple(matching))
+    found = []
+    for index, keys in rests:
+        wanted = [partners.get(key) for key in keys]
+        for other, other_keys in others:
+            places = {key: place for place, key in enumerate(other_keys)}
+            matching = [(place, places[name]) for place, name in enumerate(wanted) if name in places]
+            found.append((index, other, tuple(matching)))
+    return found
 
 
 def demands_by(pair, triple, answers):
@@ -133,19 +135,22 @@ def demands_of_move(pair, triple, move, matched):
     one, other = pair.sides
     ways = ways_on(move[0][0], one.knowns[triple[0]], other.knowns[triple[1]], triple[2])
     if pair.late:
-        return [[all_behind(ways, rests, answers) for (_, rests), (_, answers) in matched]]
+        return [[late_alternative(ways, rests, answers) for (_, rests), (_, answers) in matched]]
     found = []
     for first, second, names in ways:
         demand = []
         for (_, rests), (_, answers) in matched:
-            demand.extend([(triple_behind(r, s, names),) for r in rests[first] for s in answers[second]])
+            demand.extend([(triple,) for triple in all_behind(rests[first], answers[second], names)])
         found.append(demand)
     return found
 
 
-def all_behind(ways, rests, others):
+def late_alternative(ways, rests, others):
     """The tuple of the triples behind two moves, each with one rest for each name, in all ways."""
-    return tuple([triple_behind(rests[first][0], others[second][0], names) for first, second, names in ways])
+    found = []
+    for first, second, names in ways:
+        found.extend(all_behind(rests[first], others[second], names))
+    return tuple(found)
 
 
 def demands_of(pair, triple):

@@ -152,6 +152,20 @@ class Language(unittest.TestCase):
                 elif node.func.id in BUILTINS:
                     self.assertLessEqual({each.arg for each in node.keywords}, {"key", "reverse", "default"})
 
+    def test_zips_and_their_kind_are_iterated_at_once(self):
+        takers = ("list", "tuple", "dict", "sorted", "sum", "any", "all", "enumerate", "zip", "min", "max")
+        for stem, tree in TREES.items():
+            let = {id(node.iter) for node in named(tree, (ast.For, ast.comprehension))}
+            for node in named(tree, ast.Call):
+                if isinstance(node.func, ast.Name) and node.func.id in takers:
+                    let.update(id(argument) for argument in node.args[:1])
+                if isinstance(node.func, ast.Name) and node.func.id == "zip":
+                    let.update(id(argument) for argument in node.args)
+            for node in named(tree, ast.Call):
+                word = node.func.id if isinstance(node.func, ast.Name) else node.func.attr
+                if word in ("zip", "enumerate", "reversed", "range", "items", "keys", "values"):
+                    self.assertIn(id(node), let, f"{stem} {node.lineno}")
+
     def test_words_that_stand_in_no_file(self):
         for stem, tree in TREES.items():
             words = set()
