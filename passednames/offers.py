@@ -1,11 +1,11 @@
 """What the threads of a standing offer, and the rests behind it."""
 
-from passednames.pieces import TESTS, parts_below
+from passednames.pieces import TESTS, WITH_NAMES, bound_names, own_names, parts_below
 from passednames.threads import opened, settle
 
 
 class Offer:
-    """A send, take or wait that a thread offers.
+    """A send, take or wait, or a sends or takes of a row program, that a thread offers.
 
     thread is the place of the thread, path that of the part, row the numbers of its names;
     wanted has the triples (word, A, B) of the tests of unlike known numbers ahead of it.
@@ -20,7 +20,7 @@ class Offer:
 
 
 def word_of(offer):
-    """Whether it is a send, a take or a wait."""
+    """Whether it is a send, a take, a wait, or the one or the other of rows."""
     return offer.part[0]
 
 
@@ -30,8 +30,8 @@ def channel_of(offer):
 
 
 def sent_by(offer):
-    """The number that an offer sends."""
-    return offer.row[offer.part[2]]
+    """The tuple of the numbers that an offer sends: of a send there is one."""
+    return tuple([offer.row[name] for name in own_names(offer.part)[1:]])
 
 
 def stranger_of(standing):
@@ -82,28 +82,36 @@ def action_of(offer, known):
     """The action of an offer that is done with the outside, None if this can not be."""
     if word_of(offer) == "wait":
         return ("wait",)
-    if channel_of(offer) >= known:
+    if word_of(offer) in WITH_NAMES or channel_of(offer) >= known:
         return None
     if word_of(offer) == "take":
         return ("take", channel_of(offer))
-    if sent_by(offer) >= known:
+    sent = sent_by(offer)
+    if sent[0] >= known:
         return ("open", channel_of(offer))
-    return ("send", channel_of(offer), sent_by(offer))
+    return ("send", channel_of(offer)) + sent
 
 
 def meetings_of(offers, known):
     """The list of the triples (send, take, wanted): offers of two threads that meet if that holds."""
     meetings = []
-    for send in [offer for offer in offers if word_of(offer) == "send"]:
-        for take in [offer for offer in offers if word_of(offer) == "take"]:
+    for send in [offer for offer in offers if word_of(offer) in ("send", "sends")]:
+        for take in [offer for offer in offers if word_of(offer) in ("take", "takes")]:
             one, other = channel_of(send), channel_of(take)
-            if send.thread == take.thread:
+            if send.thread == take.thread or not are_for_each_other(send.part, take.part):
                 continue
             if one == other:
                 meetings.append((send, take, ()))
             elif one < known and other < known:
                 meetings.append((send, take, (("alike", min(one, other), max(one, other)),)))
     return meetings
+
+
+def are_for_each_other(send, take):
+    """Whether a send and a take pass one name, or a sends and a takes as many."""
+    if send[0] == "send" or take[0] == "take":
+        return send[0] == "send" and take[0] == "take"
+    return len(send[2]) == len(take[2])
 
 
 def rest_alone(table, standing, offer, taken):
@@ -115,22 +123,22 @@ def rest_alone(table, standing, offer, taken):
     if word_of(offer) == "take":
         shown = taken
     if word_of(offer) == "send":
-        shown = sent_by(offer)
-    return rest_of(table, standing, {offer.thread: going_on(offer, taken)}, shown)
+        shown = sent_by(offer)[0]
+    return rest_of(table, standing, {offer.thread: going_on(offer, (taken,))}, shown)
 
 
 def rest_of_meeting(table, standing, send, take):
     """The pair (STANDING, KEYS) behind a send and a take that meet."""
-    going = {send.thread: going_on(send, None), take.thread: going_on(take, sent_by(send))}
+    going = {send.thread: going_on(send, ()), take.thread: going_on(take, sent_by(send))}
     return rest_of(table, standing, going, None)
 
 
 def going_on(offer, taken):
-    """The pair (path, row) with which an offer's thread goes on; taken is what a take takes."""
+    """The pair (path, row) with which an offer's thread goes on; taken has what a take takes."""
     indexes, _ = parts_below(offer.part)[0]
-    row = offer.row
-    if word_of(offer) == "take":
-        row = {**row, offer.part[2]: taken}
+    row = dict(offer.row)
+    for name, number in zip(bound_names(offer.part), taken):
+        row[name] = number
     return (offer.path + indexes, row)
 
 

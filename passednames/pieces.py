@@ -3,9 +3,11 @@
 from passednames.plain import least_not_in
 
 TESTS = ("alike", "unlike")
-PREFIXES = ("send", "take", "wait")
-BRANCHES = ("send", "take", "wait", "alike", "unlike")
+# The last two stand in row programs alone.
+PREFIXES = ("send", "take", "wait", "sends", "takes")
+BRANCHES = ("send", "take", "wait", "sends", "takes", "alike", "unlike")
 WITH_TWO_NAMES = ("send", "take", "alike", "unlike")
+WITH_NAMES = ("sends", "takes")
 ROWS = ("one", "beside")
 
 
@@ -14,7 +16,7 @@ def parts_below(piece):
     word = piece[0]
     if word in ROWS:
         return [((1, place), part) for place, part in enumerate(piece[1])]
-    if word in WITH_TWO_NAMES:
+    if word in WITH_TWO_NAMES or word in WITH_NAMES:
         return [((3,), piece[3])]
     if word == "wait":
         return [((1,), piece[1])]
@@ -47,13 +49,23 @@ def bound_name(piece):
     return None
 
 
+def bound_names(piece):
+    """The tuple of the names that a piece binds."""
+    if piece[0] == "takes":
+        return piece[2]
+    name = bound_name(piece)
+    return () if name is None else (name,)
+
+
 def own_names(piece):
     """The names that stand in the piece itself, outside of its parts, and are not bound by it."""
     word = piece[0]
     if word in ("send", "alike", "unlike"):
         return piece[1:3]
-    if word == "take":
+    if word in ("take", "takes"):
         return piece[1:2]
+    if word == "sends":
+        return piece[1:2] + piece[2]
     if word == "call":
         return piece[2]
     return ()
@@ -62,9 +74,9 @@ def own_names(piece):
 def free_of(piece):
     """The ascending tuple of the free names of a piece."""
     found = list(own_names(piece))
-    bound = bound_name(piece)
+    bound = bound_names(piece)
     for _, part in parts_below(piece):
-        found.extend([name for name in free_of(part) if name != bound])
+        found.extend([name for name in free_of(part) if name not in bound])
     return tuple(sorted(set(found)))
 
 

@@ -17,27 +17,68 @@ def walked(program, given, steps):
     """The triple (INDEX, NAMES, TRACE) behind these steps."""
     table = Table(program)
     need_given(given)
-    if not isinstance(steps, tuple):
-        raise BadStep(0)
-    if len(steps) > MOST_STEPS:
-        raise TooGreat(MOST_STEPS)
+    need_steps(steps, MOST_STEPS)
     first, names = first_standing(table, given)
     _, rows = graph_from(table, first)
+    taken = all_taken(rows, names, steps)
+    if not taken:
+        return (0, names, ())
+    last = taken[-1]
+    return (last.rest[0], last.held, tuple([each.told for each in taken]))
+
+
+def need_steps(value, most):
+    """Raises the errors of what is to be a tuple of at most so many steps, whatever these are."""
+    if not isinstance(value, tuple):
+        raise BadStep(0)
+    if len(value) > most:
+        raise TooGreat(most)
+
+
+class Taken:
+    """A step that has been taken.
+
+    told is the action with the world's names, rest the pair (standing or its index, KEYS) behind,
+    held the names of the known numbers there, greatest the greatest name in use.
+    """
+
+    def __init__(self, told, rest, names, greatest):
+        self.told = told
+        self.rest = rest
+        self.held = names
+        self.greatest = greatest
+
+
+def all_taken(rows, names, steps):
+    """The list of the steps of a run as they are taken; rows has the moves of a graph.
+
+    Raises BadStep with the place of the first one that is none.
+    """
     index = 0
     greatest = GREATEST_FREE_NAME
-    trace = []
+    found = []
     for place, step in enumerate(steps):
-        if not is_step(rows[index], names, step):
+        taken = taken_step(rows[index], names, greatest, step)
+        if taken is None:
             raise BadStep(place)
-        action, rests = rows[index][step[0]]
-        name = name_passed(action, step, names, greatest)
-        greatest = max(greatest, name)
-        if greatest > GREATEST_NAME:
-            raise BadStep(place)
-        trace.append(told_action(action, names, name))
-        index, keys = rests[step[1]]
-        names = names_behind(names, keys, name)
-    return (index, names, tuple(trace))
+        index, names, greatest = taken.rest[0], taken.held, taken.greatest
+        found.append(taken)
+    return found
+
+
+def taken_step(row, names, greatest, step):
+    """A step from a standing with this row of moves as it is taken, None if it is none there.
+
+    greatest is the greatest name in use, which all names that are opened come behind.
+    """
+    if not is_step(row, names, step):
+        return None
+    action, rests = row[step[0]]
+    name = name_passed(action, step, names, greatest)
+    if name > GREATEST_NAME:
+        return None
+    rest = rests[step[1]]
+    return Taken(told_action(action, names, name), rest, names_behind(names, rest[1], name), max(greatest, name))
 
 
 def is_step(row, names, value):

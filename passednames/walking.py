@@ -1,7 +1,7 @@
 """The walk through a value that is to be a program."""
 
 from passednames.errors import BadPiece, BadProgram, TooGreat
-from passednames.pieces import BRANCHES, PREFIXES, TESTS, WITH_TWO_NAMES, free_of, parts_below
+from passednames.pieces import BRANCHES, PREFIXES, TESTS, WITH_NAMES, WITH_TWO_NAMES, free_of, parts_below
 from passednames.plain import are_names, are_unlike, is_below, is_name, is_row_of, is_row_up_to
 
 MOST_DEFINITIONS = 4
@@ -10,11 +10,14 @@ MOST_BRANCHES = 20
 MOST_BESIDE = 4
 MOST_DEEP = 12
 MOST_PARTS = 80
+MOST_IN_ROW = 3
 
 # Where a walk goes through: each lets other things.
 BODY = "body"
 MAIN = "main"
 HOLED_MAIN = "holed main"
+ROW_BODY = "row body"
+ROW_MAIN = "row main"
 
 
 def checked_parts(value, where_main):
@@ -22,9 +25,10 @@ def checked_parts(value, where_main):
     need_definitions(value)
     definitions, main = value
     counts = tuple([len(params) for params, _ in definitions])
+    where_body = ROW_BODY if where_main == ROW_MAIN else BODY
     met = []
     for place, (_, body) in enumerate(definitions):
-        walk(body, (0, place, 1), counts, BODY, met)
+        walk(body, (0, place, 1), counts, where_body, met)
     walk(main, (1,), counts, where_main, met)
     for place, (params, body) in enumerate(definitions):
         if not all([name in params for name in free_of(body)]):
@@ -51,7 +55,7 @@ def are_params(value):
 def walk(root, root_path, counts, where, met):
     """Goes through a BODY or MAIN and puts each pair (path, part) behind those that are met."""
     # In MAIN a call may stand anywhere, so everything there counts as guarded.
-    ahead = [(root_path, root, 1, False, where != BODY)]
+    ahead = [(root_path, root, 1, False, where not in (BODY, ROW_BODY))]
     while ahead:
         path, part, deep, branch_due, guarded = ahead.pop()
         if deep > MOST_DEEP:
@@ -71,12 +75,12 @@ def is_let(part, counts, where, branch_due, guarded):
     """Whether this, whatever is within, may stand at a place."""
     if is_hole(part):
         return where == HOLED_MAIN and not branch_due
-    if not has_form(part, counts):
+    if not has_form(part, counts) and not (where in (ROW_BODY, ROW_MAIN) and has_form_of_row(part)):
         return False
     word = part[0]
     if branch_due:
         return word in BRANCHES
-    if where == BODY:
+    if where in (BODY, ROW_BODY):
         return word != "beside" and (guarded or word != "call")
     return True
 
@@ -104,6 +108,16 @@ def has_form(value, counts):
     if word == "call":
         return is_row_of(value, 3) and is_call(value[1], value[2], counts)
     return False
+
+
+def has_form_of_row(value):
+    """Whether this has the form of a sends or takes, whatever is within."""
+    if not is_row_of(value, 4) or not isinstance(value[0], str) or value[0] not in WITH_NAMES:
+        return False
+    word, channel, names, _ = value
+    if not is_name(channel) or not is_row_up_to(names, MOST_IN_ROW) or not are_names(names):
+        return False
+    return word == "sends" or are_unlike(names)
 
 
 def is_call(number, names, counts):

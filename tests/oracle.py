@@ -8,7 +8,7 @@ import itertools
 from passednames.errors import TooGreat
 from tests.samples import STOP
 
-LATER = {"send": 3, "take": 3, "alike": 3, "unlike": 3, "wait": 1, "new": 2}
+LATER = {"send": 3, "take": 3, "alike": 3, "unlike": 3, "wait": 1, "new": 2, "sends": 3, "takes": 3}
 
 
 def at(program, path):
@@ -28,6 +28,10 @@ def free(piece):
     below = free(piece[-1])
     if word == "take":
         return {piece[1]} | (below - {piece[2]})
+    if word == "takes":
+        return {piece[1]} | (below - set(piece[2]))
+    if word == "sends":
+        return {piece[1], *piece[2]} | below
     if word == "new":
         return below - {piece[1]}
     if word == "wait":
@@ -127,6 +131,8 @@ def moves(program, standing):
         if piece[0] == "wait":
             found.append((("wait",), (rest({place: (path, names)}),)))
             continue
+        if piece[0] in ("sends", "takes"):
+            continue
         a, b = names[piece[1]], names.get(piece[2])
         if piece[0] == "send" and a in outside and b in outside:
             found.append((("send", a, b), (rest({place: (path, names)}),)))
@@ -141,6 +147,14 @@ def moves(program, standing):
             if other != place and piece[0] == "send" and piece2[0] == "take" and names2[piece2[1]] == a:
                 going = {place: (path, names), other: (path2, {**names2, piece2[2]: b})}
                 found.append((("wait",), (rest(going),)))
+    for place, path, names in everything:
+        for other, path2, names2 in everything:
+            piece, piece2 = at(program, path), at(program, path2)
+            if other == place or (piece[0], piece2[0]) != ("sends", "takes") or names[piece[1]] != names2[piece2[1]]:
+                continue
+            if len(piece[2]) == len(piece2[2]):
+                passed = {x: names[b] for x, b in zip(piece2[2], piece[2])}
+                found.append((("wait",), (rest({place: (path, names), other: (path2, {**names2, **passed})}),)))
     bounded([there for _, rests in found for there, _ in rests])
     return tuple(sorted(set(found)))
 

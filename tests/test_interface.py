@@ -65,6 +65,20 @@ LISTED = {
     },
     "formed": {"form_of": ["program", "given", "known", "likeness"], "joined_forms": ["program", "known", "likeness"]},
     "written": {"need_form": ["value", "known", "likeness"], "program_of": ["value", "known", "likeness"]},
+    "leading": {
+        "led": ["program", "step"], "led_all": ["program", "steps"], "is_led": ["one", "other", "paper", "likeness"],
+        "unfolding": ["program"],
+    },
+    "sentences": {
+        "need_sentence": ["value"], "holds": ["program", "sentence", GIVEN], "depth_of": ["sentence"], "is_early": ["sentence"],
+        "turned_sentence": ["sentence"],
+    },
+    "parting": {"parting": ["one", "other", "likeness", GIVEN], "parts": ["one", "other", "sentence", GIVEN]},
+    "rowed": {"need_row_program": ["value"], "need_inner": ["program"], "singled": ["program"]},
+    "rowgraphs": {
+        "row_graph": ["program", GIVEN], "image_of": ["program", "given", "index"], "row_run": ["program", "given", "steps"],
+        "finished": ["program", "given", "index"],
+    },
 }
 
 
