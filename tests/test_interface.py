@@ -79,7 +79,28 @@ LISTED = {
         "row_graph": ["program", GIVEN], "image_of": ["program", "given", "index"], "row_run": ["program", "given", "steps"],
         "finished": ["program", "given", "index"],
     },
+    "kinds": {
+        "least_telling": ["program", GIVEN], "is_closed_telling": ["program", "value", GIVEN], "uses_of": ["program", GIVEN],
+        "need_rights": ["program", "value", GIVEN], "over_rights": ["program", "rights", GIVEN],
+    },
+    "once": {
+        "lone_news": ["program", GIVEN], "lone_steps": ["program", "standing", GIVEN], "calmed": ["program", "standing", GIVEN],
+        "lone_waits": ["program", GIVEN],
+    },
+    "texts": {"program_text": ["program"], "read_program": ["text"]},
 }
+CLASSES = {
+    "house": ("House", {
+        "__init__": ["program", GIVEN], "standing": [], "names": [], "moves": [], "do": ["deed"], "follow": ["deeds"], "trial": ["deeds"], "undo": [],
+        "log": [], "trace": [], "offers": [], "copy": [], "as_program": ["names"], "__len__": [], "__iter__": [], "__eq__": ["other"]}),
+    "sheet": ("Sheet", {"__init__": ["text"], "all_true": [], "named": ["name"], "__len__": [], "__iter__": [], "__eq__": ["other"], "__str__": []}),
+}
+
+
+def told_parameters(function):
+    """The names of the parameters of a function, with their default values."""
+    told = inspect.signature(function).parameters.values()
+    return [(each.name, each.default) if each.default is not each.empty else each.name for each in told]
 
 
 class Interface(unittest.TestCase):
@@ -93,5 +114,18 @@ class Interface(unittest.TestCase):
                 told = inspect.signature(function).parameters.values()
                 for parameter in told:
                     self.assertEqual(parameter.kind, parameter.POSITIONAL_OR_KEYWORD, name)
-                got = [(each.name, each.default) if each.default is not each.empty else each.name for each in told]
-                self.assertEqual(got, wanted, name)
+                self.assertEqual(told_parameters(function), wanted, name)
+
+    def test_classes_and_their_methods(self):
+        for file, (name, methods) in CLASSES.items():
+            module = importlib.import_module("passednames." + file)
+            told = getattr(module, name)
+            self.assertEqual((told.__module__, told.__bases__), (module.__name__, (object,)))
+            for method, wanted in methods.items():
+                # Each stands in the class itself.
+                self.assertEqual(told_parameters(vars(told)[method]), ["self"] + wanted, method)
+        from passednames.house import House
+        from passednames.sheet import Sheet
+        program = ((), ("one", ()))
+        house = House(program)
+        self.assertEqual((house.program, house.given, Sheet("program A is ( )").rows), (program, AS_IS, ()))

@@ -146,9 +146,10 @@ class Language(unittest.TestCase):
 
     def test_methods_and_keywords_of_builtins(self):
         for stem, tree in TREES.items():
+            own = {node.name for each in named(tree, ast.ClassDef) for node in each.body if isinstance(node, ast.FunctionDef)}
             for node in named(tree, ast.Call):
                 if isinstance(node.func, ast.Attribute):
-                    self.assertIn(node.func.attr, METHODS, f"{stem} {node.lineno}")
+                    self.assertIn(node.func.attr, METHODS | own, f"{stem} {node.lineno}")
                 elif node.func.id in BUILTINS:
                     self.assertLessEqual({each.arg for each in node.keywords}, {"key", "reverse", "default"})
 
@@ -195,5 +196,42 @@ class Language(unittest.TestCase):
         for stem, tree in TREES.items():
             self.assertTrue(ast.get_docstring(tree), stem)
             for node in named(tree, (ast.FunctionDef, ast.ClassDef)):
-                if node.name != "__init__":
+                if not node.name.startswith("__"):
                     self.assertTrue(ast.get_docstring(node), f"{stem} {node.name}")
+
+    def test_classes(self):
+        for stem, tree in TREES.items():
+            for each in named(tree, ast.ClassDef):
+                methods = {node.name: node for node in each.body if isinstance(node, ast.FunctionDef)}
+                attributes = {node.attr for node in named(each, ast.Attribute) if isinstance(node.ctx, ast.Store)}
+                self.assertEqual(attributes & set(methods), set(), each.name)
+                builtin = {name for kind in (str, int, list, dict, set, bytes, tuple) for name in dir(kind)}
+                self.assertEqual(attributes & (builtin - set("count index title find get join lower upper split strip copy add".split())), set())
+                self.assertEqual(set(methods) & {name for name in builtin if not name.startswith("__")}, {"copy"} & set(methods))
+                for node in each.body:
+                    self.assertIsInstance(node, (ast.FunctionDef, ast.Expr), each.name)
+                for name, node in methods.items():
+                    self.assertEqual(node.args.args[0].arg, "self")
+                    if not name.startswith("__"):
+                        self.assertNotIn(name, METHODS - {"copy"}, each.name)
+                        continue
+                    self.assertIn(name, ("__init__", "__eq__", "__len__", "__iter__", "__str__"))
+                    if name != "__init__":
+                        self.assertIsInstance(node.body[-1], ast.Return)
+                        self.assertEqual([inner for inner in ast.walk(node) if isinstance(inner, (ast.Assign, ast.AugAssign))], [])
+                    if name in ("__len__", "__iter__"):
+                        self.assertRegex(ast.unparse(node.body[0]), r"^return (len|iter)\(self\.[a-z_]+\)$")
+                    if name == "__str__":
+                        self.assertRegex(ast.unparse(node.body[0]), r"^return '.*'\.join\(self\.[a-z_]+\)$")
+
+    def test_tables_at_module_level_are_plain(self):
+        for stem, tree in TREES.items():
+            above = set()
+            for node in tree.body:
+                if isinstance(node, ast.Assign):
+                    for inner in ast.walk(node.value):
+                        self.assertIsInstance(inner, (ast.Constant, ast.Tuple, ast.Dict, ast.Name, ast.BinOp, ast.Pow, ast.Load), stem)
+                        if isinstance(inner, ast.Name):
+                            self.assertIn(inner.id, above, stem)
+                if isinstance(node, ast.FunctionDef):
+                    above.add(node.name)
