@@ -2,8 +2,8 @@
 
 from passednames.conditions import all_joinings
 from passednames.errors import BadParameter, BadStanding, NotOpen, TooGreat
-from passednames.plain import are_from_zero, are_unlike, is_below, is_row_of
-from passednames.threads import checked_standing
+from passednames.plain import are_from_zero, are_unlike, is_below, is_row_of, is_row_up_to
+from passednames.threads import MOST_THREADS, checked_standing
 
 
 def need_open(tables):
@@ -67,6 +67,27 @@ def may_be(joint, joining):
     """Whether a joining joins no names that never become one."""
     _, _, _, apart = joint
     return all([joining[one] != joining[two] for one, two in apart])
+
+
+def has_form_of_joint(value):
+    """Whether this is built as joint standings are, of tuples and integers from 0 on alone.
+
+    Two such things that are equal are the same in kind, too, so they can be looked up.
+    """
+    if not is_row_of(value, 4) or not has_form_of_standing(value[0]) or not has_form_of_standing(value[1]):
+        return False
+    _, _, names, apart = value
+    if not are_from_zero(names) or not isinstance(apart, tuple):
+        return False
+    return all([are_from_zero(pair) for pair in apart])
+
+
+def has_form_of_standing(value):
+    """Whether this is built as standings are, of tuples and integers from 0 on alone."""
+    if not is_row_of(value, 3) or not are_from_zero(value[:2]) or not is_row_up_to(value[2], MOST_THREADS):
+        return False
+    threads = value[2]
+    return all([is_row_of(thread, 2) and are_from_zero(thread[0]) and are_from_zero(thread[1]) for thread in threads])
 
 
 def is_joint(tables, value):

@@ -2,10 +2,10 @@
 
 from passednames.attacks import attacks_on, is_attack
 from passednames.errors import NoMove, Unlike
-from passednames.joint import is_joint, joinings_of
+from passednames.joint import has_form_of_joint, is_joint, joinings_of
 from passednames.plain import is_row_up_to
 from passednames.replies import MOST_JOINT, demands_in, demands_met, game_of, replies_at
-from passednames.rounds import are_met_by, rounds_of
+from passednames.rounds import are_met_by, rounds_of, unlike_ones
 
 
 def open_paper(one, other, apart=()):
@@ -23,15 +23,16 @@ def is_open_paper(one, other, paper, apart=()):
     game = game_of(one, other, apart)
     if not is_row_up_to(paper, MOST_JOINT):
         return False
-    joints = [item for item in paper if is_joint(game.tables, item)]
-    if game.first not in joints:
+    forms = [has_form_of_joint(item) for item in paper]
+    held = {item: True for item, has_form in zip(paper, forms) if has_form}
+    if game.first not in held:
         return False
-    held = {joint: True for joint in joints}
-    for item in paper:
-        # What is no joint standing is found in its turn: one ahead of it may raise an error.
+    # What is no joint standing is found in its turn: one ahead of it may raise an error.
+    many = forms.index(False) if False in forms else len(paper)
+    for item in unlike_ones(paper[:many]):
         if not is_joint(game.tables, item) or not is_held(game, item, held):
             return False
-    return True
+    return many == len(paper)
 
 
 def is_held(game, joint, held):

@@ -4,7 +4,7 @@ from passednames.marks import all_waits, are_waits, those_round
 from passednames.names import AS_IS, need_given
 from passednames.pairs import Pair, first_triple, pair_of
 from passednames.rooted import rooted_demands
-from passednames.rounds import always_stays, are_met_by, is_closed
+from passednames.rounds import always_stays, are_met_by, is_closed, unlike_ones
 from passednames.sides import side_of
 from passednames.tables import Table
 
@@ -39,7 +39,10 @@ def triple_over(side, wait):
 def are_marks(program, value, given=AS_IS):
     """Whether a value of any kind is a tuple of marks."""
     side = side_of(Table(program), need_given(given))
-    return are_waits(side, value) and len(those_round(side, value)) == len(value)
+    if not are_waits(side, value):
+        return False
+    marks = unlike_ones(value)
+    return len(those_round(side, marks)) == len(marks)
 
 
 def greatest_marks(program, given=AS_IS):

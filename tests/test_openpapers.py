@@ -144,6 +144,50 @@ class Papers(Case):
         self.assertIs(is_open_paper(SIX, SIX, (six,) * 1501), False)
         self.refused(TooGreat, {"most": 5}, is_open_paper, SIX, SIX, (six,) * 1500)
 
+    def test_repeated_things(self):
+        idle = main(STOP)
+        alone = (NOTHING, NOTHING, (), ())
+        wrong = [(NOTHING, NOTHING, (), ((0, 1),)), (NOTHING, NOTHING, ()), ((False, 0, ()), NOTHING, (), ()), [NOTHING, NOTHING, (), ()], None, Odd(),
+                 (NOTHING, (0, 0, []), (), ()), (NOTHING, (0, 0, ((), ())), (), ()), ((0, 1, ()), NOTHING, (), ()), (NOTHING, NOTHING, (0,), ())]
+        for many in (1, 2, 700, 1500):
+            self.assertIs(is_open_paper(idle, idle, (alone,) * many), True)
+            # Equal things need not be one and the same.
+            self.assertIs(is_open_paper(idle, idle, tuple(((0, 0, ()), (0, 0, ()), (), ()) for _ in range(many))), True)
+        for value in wrong:
+            for ahead, behind in ((0, 1), (1, 0), (3, 0), (0, 3), (2, 2), (1499, 0), (0, 1499), (700, 799)):
+                self.assertIs(is_open_paper(idle, idle, (alone,) * ahead + (value,) + (alone,) * behind), False, value)
+            self.assertIs(is_open_paper(idle, idle, (alone, value, alone, value)), False)
+            self.assertIs(is_open_paper(idle, idle, (value,) * 1500), False)
+        # What is equal to a joint standing, but of other kinds within, is none, however often this stood ahead of it.
+        paper = open_paper(TWO, TWO)
+        self.assertIs(is_open_paper(TWO, TWO, paper * 3), True)
+        for joint in paper:
+            known, own, threads = joint[0]
+            turned_about = [((float(known), own, threads),) + joint[1:], ((known, own, list(threads)),) + joint[1:], joint[:2] + (list(joint[2]),) + joint[3:],
+                            joint[:2] + (tuple(bool(name) if name < 2 else float(name) for name in joint[2]),) + joint[3:]]
+            for value in turned_about[:3] + (turned_about[3:] if joint[2] else []):
+                for things in (paper * 3 + (value,), paper * 2 + (value,) + paper, (value,) + paper * 3):
+                    self.assertIs(is_open_paper(TWO, TWO, things), False, value)
+
+    def test_repeated_things_and_errors(self):
+        paper = open_paper(THREE_NAMES, THREE_NAMES)
+        standing = start(THREE_NAMES)[0]
+        six = (standing, standing, (3, 4, 5), ())
+        none = (standing, standing, (0, 0, 1), ())
+        for things in (paper * 3 + (six,) * 2, paper * 2 + (six, none) + paper, paper * 2 + (six,) + (None,) * 3, (six, six) + paper * 2):
+            self.refused(TooGreat, {"most": 5}, is_open_paper, THREE_NAMES, THREE_NAMES, things)
+        for things in (paper * 3 + (none, six), paper * 2 + (None, six) + paper, (none,) * 2 + (six,) + paper):
+            self.assertIs(is_open_paper(THREE_NAMES, THREE_NAMES, things), False)
+        first = first_of(SENT, SENT)
+        waiting = (0, 0, (((1, 3), ()),))
+        second = (waiting, waiting, (), ())
+        self.refused(TooGreat, {"most": 8}, is_open_paper, SENT, SENT, (first, second) * 2 + (first, None))
+        self.assertIs(is_open_paper(SENT, SENT, (first,) * 3 + (None, second) * 2), False)
+        # A repeated thing that is not answered is found where it stands first.
+        unanswered = first_of(main(wait()), main(STOP))
+        self.assertIs(is_open_paper(main(wait()), main(STOP), (unanswered,) * 1500), False)
+        self.assertIs(is_open_paper(main(wait()), main(STOP), (unanswered,) * 1501), False)
+
     def test_a_paper_exactly_if_there_is_no_attack(self):
         kinds = set()
         for first, second, apart in open_pairs(361, 90):
