@@ -56,7 +56,7 @@ def can_be_one(kinds, first, second):
 def first_unfit(table):
     """The path of the first piece with which what is told of the kinds can not hold, None if it can."""
     kinds = Kinds()
-    params = [{name: new_kind(kinds, None) for name in names} for names, _ in table.program[0]]
+    params = [{param: new_kind(kinds, None) for param in row} for row, _ in table.program[0]]
     # The kinds of the names at each path; those around a part are told ahead of it.
     at_paths = {(0, number, 1): scope for number, scope in enumerate(params)}
     at_paths[(1,)] = {name: OUT for name in table.free[(1,)]}

@@ -13,6 +13,20 @@ GREATEST_NAME = 10 ** 6
 GREATEST_FREE_NAME = 9
 
 
+class Taken:
+    """A step that has been taken.
+
+    told is the action with the world's names, rest the pair (standing or its index, KEYS) behind,
+    held the names of the known numbers there, greatest the greatest name in use.
+    """
+
+    def __init__(self, told, rest, names, greatest):
+        self.told = told
+        self.rest = rest
+        self.held = names
+        self.greatest = greatest
+
+
 def walked(program, given, steps):
     """The triple (INDEX, NAMES, TRACE) behind these steps."""
     table = Table(program)
@@ -33,20 +47,6 @@ def need_steps(value, most):
         raise BadStep(0)
     if len(value) > most:
         raise TooGreat(most)
-
-
-class Taken:
-    """A step that has been taken.
-
-    told is the action with the world's names, rest the pair (standing or its index, KEYS) behind,
-    held the names of the known numbers there, greatest the greatest name in use.
-    """
-
-    def __init__(self, told, rest, names, greatest):
-        self.told = told
-        self.rest = rest
-        self.held = names
-        self.greatest = greatest
 
 
 def all_taken(rows, names, steps):

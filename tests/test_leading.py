@@ -494,6 +494,9 @@ class Unfolding(Case):
         full = send(0, 1, send(2, 3, send(4, 5, send(6, 7, send(8, 9)))))
         self.refused(TooGreat, {"most": 10}, unfolding, main(beside(new(0, send(0, 0)), full)))
         self.refused(TooGreat, {"most": 10}, unfolding, main(beside(A, STOP, new(0, send(0, 0)), full)))
+        # The last name is left.
+        nine = one(send(0, 1), send(2, 3), send(4, 5), send(6, 7), send(8, 8))
+        self.assert_same(unfolding(main(beside(new(0, send(0, 0)), nine)))[:2], (("turn", (1, 1, 0), 9), ("out", (1,), 0)))
         # A take for which no name is left is no step; nor is a one of too many branches.
         self.refused(BadStep, {"place": (1,)}, unfolding, main(beside(take(0, 1), full)))
         self.refused(BadStep, {"place": (1, 1)}, unfolding, main(wait(beside(one(*[wait()] * 11), one(*[wait()] * 10)))))

@@ -163,9 +163,16 @@ class Papers(Case):
         self.assertIs(is_open_paper(TWO, TWO, paper * 3), True)
         for joint in paper:
             known, own, threads = joint[0]
-            turned_about = [((float(known), own, threads),) + joint[1:], ((known, own, list(threads)),) + joint[1:], joint[:2] + (list(joint[2]),) + joint[3:],
-                            joint[:2] + (tuple(bool(name) if name < 2 else float(name) for name in joint[2]),) + joint[3:]]
-            for value in turned_about[:3] + (turned_about[3:] if joint[2] else []):
+            bent = [((float(known), own, threads),) + joint[1:], ((known, own, list(threads)),) + joint[1:], joint[:2] + (list(joint[2]),) + joint[3:]]
+            if joint[2]:
+                bent.append(joint[:2] + (tuple(float(name) for name in joint[2]),) + joint[3:])
+            if threads:
+                path, numbers = threads[0]
+                bent += [((known, own, (thread,) + threads[1:]),) + joint[1:] for thread in (
+                    ((True,) + path[1:], numbers), (path[:1] + (float(path[1]),) + path[2:] if path[1:] else (1.0,), numbers), (list(path), numbers))]
+                if numbers:
+                    bent.append(((known, own, ((path, (float(numbers[0]),) + numbers[1:]),) + threads[1:]),) + joint[1:])
+            for value in bent:
                 for things in (paper * 3 + (value,), paper * 2 + (value,) + paper, (value,) + paper * 3):
                     self.assertIs(is_open_paper(TWO, TWO, things), False, value)
 

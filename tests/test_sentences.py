@@ -79,7 +79,7 @@ class Need(Case):
     def test_wrong_rows(self):
         wrong = values_of_every_kind() + [WAITS + (0,), WAITS[:1], list(WAITS), (25, ("wait", ())), (-1, ("wait", ())), (True, ("wait", ())), (0.0, ("wait", ())),
                                           (None, ("wait", ())), (0, ["wait", ()]), (0, ("wait", [])), (0, ("wait",)), (0, ("wait", (), ())), (0, ("Wait", ())),
-                                          (0, ("tau", ())), (0, ()), (0, None), (0, Odd()), (0, ("wait", None)), (0, (None, ())), (0, ("send", 0, 0, ())),
+                                          (0, ("tau", ())), (1, ("taken", 0, ())), (1, ("sends", 0, 0, ())), (1, ("opens", 0, ())), (0, ()), (0, None), (0, Odd()), (0, ("wait", None)), (0, (None, ())), (0, ("send", 0, 0, ())),
                                           (1, ("send", 0, 1, ())), (1, ("send", 1, 0, ())), (1, ("send", 0, 0)), (1, ("send", 0, 0, (), ())), (1, ("send", False, 0, ())),
                                           (1, ("send", 0, False, ())), (1, ("send", None, 0, ())), (1, ("send", 0, 0, None)), (0, ("open", 0, ())), (1, ("open", 1, ())),
                                           (1, ("open", 0)), (1, ("open", 0, (), ())), (1, ("open", True, ())), (1, ("open", 0, None)), (1, ("open", 0, [])),
